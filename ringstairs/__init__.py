@@ -1,0 +1,1 @@
+"""Ringstairs: chips on chains of rings, and what both ends tell."""

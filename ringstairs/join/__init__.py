@@ -1,0 +1,1 @@
+"""Pieces that are joined, and their tables."""

@@ -1,0 +1,1 @@
+"""Rings, chains, deals, and their classes."""

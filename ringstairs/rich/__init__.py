@@ -1,0 +1,1 @@
+"""Richness, and its papers."""

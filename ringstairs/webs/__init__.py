@@ -1,0 +1,1 @@
+"""Webs, fire and debt."""

@@ -1,0 +1,194 @@
+"""Values that several test files use, and a driver for tables of calls with wrong arguments."""
+
+import copy
+
+from ringstairs.errors import (
+    InvalidChain, InvalidDeal, InvalidHeap, InvalidNumber, InvalidOperation, InvalidTuple, InvalidWeb,
+)
+from ringstairs.join.pieces import Piece
+
+PAIR = ((3, 1), (4, 1))
+TRIO = ((5, 1), (4, 2), (7, 3))
+EVEN = ((2, 1),) * 4
+TWELVE = ((3, 1), (4, 2), (5, 3), (2, 1), (60, 7), (6, 4), (7, 2), (8, 6), (9, 3), (3, 2), (10, 5), (4, 3))
+TRIANGLE = (3, ((0, 1), (0, 2), (1, 2)))
+SQUARE = (4, ((0, 1), (0, 2), (1, 3), (2, 3), (2, 3)))
+
+LONG = 10 ** 60
+MOST = LONG - 1
+ODD_PIECE = Piece(SQUARE, 0, 1, (0, 1, 1, 0))
+RING_PIECE = Piece(TRIANGLE, 1, 0, (1, 0, 1))
+
+
+def nested(depth):
+    value = 1
+    for _ in range(depth):
+        value = (value,)
+    return value
+
+
+def nested_list(depth):
+    value = {}
+    for _ in range(depth):
+        value = [value]
+    return value
+
+
+# Nothing here is an integer of at most sixty digits, and nothing a chain, a web, a deal or a tuple of places.
+NO_INTEGERS = (
+    True, False, None, "", "1", "3,1 4,1", (), (1,), (1, 2), [], [1], {}, {1: 1}, (None,), ((),), ([],), ({},),
+    LONG, -LONG, 10 ** 219, 1 - 10 ** 220, nested(8), nested_list(7), ODD_PIECE, (ODD_PIECE,),
+    "x" * 20000, "\t\n",
+)
+NO_RINGS = NO_INTEGERS[:8] + (
+    0, 3, (3,), (3, 0), (3, 3), (3, -1), (1, 0), (1, 1), (0, 0), (61, 1), (-3, 1), (3, 1, 1), (3, True), (True, 1),
+    (3, None), ("3", "1"), [3, 1], {3: 1}, ((3, 1),), (3, (1,)), (LONG, 1), (3, LONG), "31", None, ODD_PIECE,
+)
+NO_CHAINS = NO_INTEGERS + (
+    0, 3, (3, 1), [(3, 1), (4, 1)], ([3, 1],), {(3, 1): 1}, ((3, 1),) * 13, ((3, 1), None), (((3, 1),),),
+    ((3, 1), (4, 0)), ((3, 1), (4, 4)), ((3, 1), (1, 0)), ((3, 1), (61, 1)), ((3, True),), ((3, 1), [4, 1]),
+    ((3, 1, 0),), ((3, -1),), (("3", "1"),), ((3, 1), True), (ODD_PIECE,), ((3, ODD_PIECE),),
+)
+# For the chain PAIR.
+NO_DEALS = (
+    True, False, None, 0, 1, "", "0,0:1", (), [], [((0, 0), 1)], (((0, 0), 1),), {0: 1}, {"00": 1}, {(0,): 1},
+    {(0, 0, 0): 1}, {(0, 3): 1}, {(1, 4): 1}, {(2, 0): 1}, {(-1, 0): 1}, {(0, -1): 1}, {(False, 0): 1},
+    {(0, True): 1}, {(0, 0): True}, {(0, 0): None}, {(0, 0): "1"}, {(0, 0): (1,)}, {(0, 0): [1]},
+    {(0, 0): LONG}, {(0, 0): -LONG}, {(0, 0): 10 ** 219}, {(0, 0): 1, None: 1}, {((0, 0),): 1}, {(0, 0): ODD_PIECE},
+    {(0, LONG): 1}, {(0, None): 1}, {(0, (0,)): 1}, ODD_PIECE, {(0, 0): 1, (1, 0): {}}, nested_list(7),
+)
+NO_PLACES = (
+    True, None, 0, "", "00", (), (0,), (0, 0, 0), [0, 0], (3, 0), (0, 4), (-1, 0), (0, -1), (True, 0), (0, False),
+    (0, None), (0, "0"), ((0, 0),), (0, (0,)), {0: 0}, (0, LONG), ([0], 0), ODD_PIECE, (ODD_PIECE, 0), {},
+)
+NO_CLASSES = (
+    True, None, 0, "", (), (1,), (1, (0, 0), 0), [1, (0, 0)], (True, (0, 0)), (None, (0, 0)), ("1", (0, 0)),
+    (LONG, (0, 0)), (-LONG, (0, 0)), ((0, 0), 1), (1, [0, 0]), (1, (0,)), (1, (0, 4)), (1, (3, 0)), (1, (0, True)),
+    (1, (0, -1)), (1, None), {1: (0, 0)}, ODD_PIECE, (1, ODD_PIECE), ((1,), (0, 0)),
+)
+NO_WEBS = NO_INTEGERS + (
+    0, 1, (0, ()), (13, ((0, 1),)), (2, ()), (3, ((0, 1),)), (4, ((0, 1), (2, 3))), (2, ((1, 0),)), (2, ((0, 0),)),
+    (2, ((0, 2),)), (2, ((-1, 1),)), (2, [(0, 1)]), (2, ([0, 1],)), [2, ((0, 1),)], (3, ((0, 2), (0, 1))),
+    (2, ((0, 1),) * 41), (2, ((0, 1, 1),)), (True, ()), (2, ((False, True),)), (2, ((False, 1),)), (2, ((0, True),)),
+    (2, ((0, None),)), (2, None), (1, ((0, 0),)), (2, {(0, 1): 1}), (2, ((0, 1),), 0), (2, (0, 1)), ("2", ((0, 1),)),
+    (3, ((0, 1), (1, 1), (1, 2))), (3, ((0, 1), (0, 2), (2, 1))), (2, ((0, 1), (1, 1))),
+    (2, (ODD_PIECE,)), (LONG, ((0, 1),)), (2, ((0, LONG),)),
+)
+# For the web TRIANGLE.
+NO_WEB_DEALS = (
+    True, None, 0, "", (), (0,), (0, 0), (0, 0, 0, 0), [0, 0, 0], (101, 0, 0), (0, 0, -101), (True, 0, 0),
+    (0, None, 0), (0, 0, "0"), {0: 0, 1: 0, 2: 0}, (0, 0, (0,)), (LONG, 0, 0), ((0, 0, 0),), ODD_PIECE,
+    (0, ODD_PIECE, 0), (0, [], 0),
+)
+NO_MOVES = (
+    True, None, 0, "", (), (0,), (0, 0), (0, 0, 0, 0), [0, 0, 0], (LONG, 0, 0), (0, 0, -LONG), (True, 0, 0),
+    (0, None, 0), (0, 0, "0"), {0: 0, 1: 0, 2: 0}, (0, 0, (0,)), ((0, 0, 0),), ODD_PIECE, (0, ODD_PIECE, 0),
+)
+NO_SPOTS = NO_INTEGERS + (-1, 3, 12)
+NO_TAKEN = NO_INTEGERS + (-1, 5, 100)
+NO_HEAPS = (
+    True, None, 0, 1, "", "1", [], [1], {}, {1: 1}, (0,), (1, 0), (1, 2), (-1,), (True,), (2, True), (None,), ((1,),),
+    (61,), (1,) * 61, (60,) * 61, (LONG,), ("1",), ([1],), (2, ODD_PIECE), ODD_PIECE, nested(8), (3, 2, 2, 3),
+)
+NO_SIDES = NO_INTEGERS + (61, 100)
+NO_COUNTS = NO_INTEGERS + (-1, -LONG + 1)
+NO_PIECES = (
+    True, None, 0, "", (), [ODD_PIECE], (TRIANGLE, 1, 0, (1, 0, 1)), (ODD_PIECE, None), (None, ODD_PIECE),
+    (ODD_PIECE,) * 7, ODD_PIECE, {0: ODD_PIECE}, ((ODD_PIECE,),), (ODD_PIECE, True), {}, "piece",
+)
+NO_PIECE = (True, None, 0, "", (), (ODD_PIECE,), [ODD_PIECE], TRIANGLE, {}, (TRIANGLE, 1, 0, (1, 0, 1)), "piece")
+NO_PIECE_ENDS = NO_INTEGERS + (401, -401, 1000)
+NO_JOINED_ENDS = NO_INTEGERS + (51, -51, 400)
+NO_PIECE_WEBS = NO_WEBS + ((7, tuple((0, p) for p in range(1, 7))), (2, ((0, 1),) * 10))
+NO_PIECE_DEALS = NO_WEB_DEALS + ((6, 0, 0), (0, 0, -6), (100, 0, 0))
+
+KINDS = {
+    "ring": (InvalidChain, NO_RINGS),
+    "chain": (InvalidChain, NO_CHAINS),
+    "deal": (InvalidDeal, NO_DEALS),
+    "places": (InvalidTuple, NO_PLACES),
+    "class": (InvalidTuple, NO_CLASSES),
+    "integer": (InvalidNumber, NO_INTEGERS),
+    "count": (InvalidNumber, NO_COUNTS),
+    "spot": (InvalidNumber, NO_SPOTS),
+    "web": (InvalidWeb, NO_WEBS),
+    "web deal": (InvalidDeal, NO_WEB_DEALS),
+    "moves": (InvalidOperation, NO_MOVES),
+    "taken": (InvalidNumber, NO_TAKEN),
+    "heap": (InvalidHeap, NO_HEAPS),
+    "side": (InvalidNumber, NO_SIDES),
+    "piece": (InvalidOperation, NO_PIECE),
+    "pieces": (InvalidOperation, NO_PIECES),
+    "piece end": (InvalidNumber, NO_PIECE_ENDS),
+    "joined end": (InvalidNumber, NO_JOINED_ENDS),
+    "piece web": (InvalidWeb, NO_PIECE_WEBS),
+    "piece deal": (InvalidDeal, NO_PIECE_DEALS),
+}
+
+# Everything that a judging function may be asked about.
+PILE = tuple(
+    value
+    for _, values in KINDS.values()
+    for value in values
+) + (PAIR, TRIO, EVEN, TRIANGLE, SQUARE, (0, 0), (1, 3), {}, {(0, 1): 1}, {(0, 0): -5}, (0, 0, 0), (3, 1), (),
+     ((0, 1), (1, 2)), ((0, 1, 2), (0, 0, 0)), (1, (0, 0)), {(0, 1): 0}, -3, 400, MOST, ((0,),), ((0, 1),))
+
+
+def raised(case, error, call, *arguments):
+    """The error that the call raises, which must be of just this class."""
+    try:
+        result = call(*arguments)
+    except Exception as caught:
+        case.assertIs(type(caught), error, (call, arguments, caught))
+        return caught
+    case.fail(f"{call} returned {result!r} instead of raising {error} for {arguments!r}"[:2000])
+    return None
+
+
+def check_wrong(case, call, good, kinds):
+    """Try all wrong arguments alone, and each two of them at once.
+
+    The first wrong one decides; arguments stay as they are. A kind None is a
+    parameter for which nothing is wrong.
+    """
+    call(*good)
+    for at, kind in enumerate(kinds):
+        if kind is None:
+            continue
+        error, values = KINDS[kind]
+        for wrong in values:
+            arguments = list(good)
+            arguments[at] = wrong
+            before = copy.deepcopy(arguments)
+            caught = raised(case, error, call, *arguments)
+            case.assertEqual(before, arguments)
+            if error is InvalidNumber:
+                case.assertIs(caught.given, wrong)
+        for behind in range(at + 1, len(kinds)):
+            if kinds[behind] is None:
+                continue
+            for wrong, worse in zip(values, reversed(KINDS[kinds[behind]][1])):
+                arguments = list(good)
+                arguments[at] = wrong
+                arguments[behind] = worse
+                caught = raised(case, error, call, *arguments)
+                if error is InvalidNumber:
+                    case.assertIs(caught.given, wrong)
+
+
+def check_judge(case, judge, arguments, right=()):
+    """The judge tells True or False of everything, and False of all but the right values."""
+    for value in PILE:
+        before = copy.deepcopy((arguments, value))
+        told = judge(*arguments, value)
+        case.assertIs(type(told), bool)
+        case.assertEqual(before, (arguments, value))
+        if not is_among(value, right):
+            case.assertIs(told, False, (judge, value))
+    for value in right:
+        case.assertIs(judge(*arguments, value), True, (judge, value))
+
+
+def is_among(value, others):
+    """Whether the value is one of the others, True other than 1."""
+    return any(repr(value) == repr(other) for other in others)
