@@ -3,9 +3,11 @@
 import copy
 
 from ringstairs.errors import (
-    InvalidChain, InvalidDeal, InvalidHeap, InvalidNumber, InvalidOperation, InvalidTuple, InvalidWeb,
+    InvalidBox, InvalidChain, InvalidDeal, InvalidFilling, InvalidHeap, InvalidMap, InvalidNumber, InvalidOperation,
+    InvalidTuple, InvalidWeb, InvalidWord,
 )
 from ringstairs.join.pieces import Piece
+from ringstairs.turns.rounds import Round
 
 PAIR = ((3, 1), (4, 1))
 TRIO = ((5, 1), (4, 2), (7, 3))
@@ -18,6 +20,7 @@ LONG = 10 ** 60
 MOST = LONG - 1
 ODD_PIECE = Piece(SQUARE, 0, 1, (0, 1, 1, 0))
 RING_PIECE = Piece(TRIANGLE, 1, 0, (1, 0, 1))
+TURN = Round((3, 1, 2))
 
 
 def nested(depth):
@@ -38,7 +41,7 @@ def nested_list(depth):
 NO_INTEGERS = (
     True, False, None, "", "1", "3,1 4,1", (), (1,), (1, 2), [], [1], {}, {1: 1}, (None,), ((),), ([],), ({},),
     LONG, -LONG, 10 ** 219, 1 - 10 ** 220, nested(8), nested_list(7), ODD_PIECE, (ODD_PIECE,),
-    "x" * 20000, "\t\n",
+    "x" * 20000, "\t\n", TURN, (TURN, TURN),
 )
 NO_RINGS = NO_INTEGERS[:8] + (
     0, 3, (3,), (3, 0), (3, 3), (3, -1), (1, 0), (1, 1), (0, 0), (61, 1), (-3, 1), (3, 1, 1), (3, True), (True, 1),
@@ -101,6 +104,63 @@ NO_PIECE_ENDS = NO_INTEGERS + (401, -401, 1000)
 NO_JOINED_ENDS = NO_INTEGERS + (51, -51, 400)
 NO_PIECE_WEBS = NO_WEBS + ((7, tuple((0, p) for p in range(1, 7))), (2, ((0, 1),) * 10))
 NO_PIECE_DEALS = NO_WEB_DEALS + ((6, 0, 0), (0, 0, -6), (100, 0, 0))
+NO_ROUND_VALUES = NO_INTEGERS[:7] + NO_INTEGERS[9:] + (
+    0, 1, (True,), (0, 2), (0, 1, 3), (1, 1), (0, -2), [0, 1], {0: 1}, (0, True), (None, 0), (0, None),
+    ("0", "1"), ((0,), (1,)), tuple(range(61)), (LONG, 0), (0, LONG + 1), (0, -LONG - 1), (0, 1, None), (0, [1]),
+)
+NO_MAPS = (
+    True, False, None, 0, 1, "", "round of 3", (), (3, 37, 2), [3, 1, 2], (TURN,), [TURN], {0: TURN}, ODD_PIECE, LONG,
+    nested(8), {}, (0, 1, 32),
+)
+# For maps of the round 3: maps of other rounds are none.
+NO_THREES = NO_MAPS + (Round((0,)), Round((1, 0)), Round((0, 1, 2, 3)), Round((0, 1, 2, 3, 4, 5)))
+NO_ROUNDS = NO_INTEGERS + (0, -1, 61, 120)
+NO_LETTER_ROUNDS = NO_ROUNDS + (1,)
+NO_THIRDS = NO_INTEGERS + (-1, 3, 4)
+# For the round 3.
+NO_WORDS = (
+    True, None, 0, 1, "", (), (0,), (0, ()) * 2, [0, ()], (0, []), (0, [1]), (True, ()), (None, ()), ("0", ()),
+    (LONG, ()), (-LONG, (1,)), (0, (3,)), (0, (-1,)), (0, (True,)), (0, (0, None)), (0, (0, (1,))), (0, 0), ((), 0),
+    (0, (1,) * 2001), {0: ()}, (0, ("1",)), (0, (LONG,)), (0, TURN), (TURN, (0,)), TURN, ((0,), (1,)), (0, {0: 1}),
+)
+NO_ORDERS = NO_INTEGERS + (1, 0, -2, 61)
+# For k = 3.
+NO_CORES = NO_HEAPS + ((2, 2), (3,), (1, 1, 1), (2, 1), (60,) * 60, TURN)
+NO_CORE_WORDS = (
+    True, None, 0, "", "012", [], [0], {}, (3,), (-1,), (0, True), (None,), ((0,),), (0, 3), (0,) * 201, ("0",),
+    (LONG,), (0, [1]), TURN, (TURN,), nested(8), {0: 1},
+)
+NO_CHARGES = (
+    True, None, 0, "", (), (0,), (0, 0), (0, 0, 0, 0), [0, 0, 0], (1, 0, 0), (1, -1, 1), (True, -1, 0), (0, None, 0),
+    (LONG, -LONG, 0), ("0", "0", "0"), {0: 0}, TURN, (0, (0,), 0), ((0, 0, 0),), (0, 0, False),
+)
+NO_PARTS = (
+    True, None, 0, 1, "", [], [1], {}, (0,), (3,), (1, 2), (2, 1, 2), (True,), (2, True), (-1,), (None,), ("1",),
+    ((1,),), (2, 0), (LONG,), TURN, (2, [1]), (1, 1, 3),
+)
+# For the heap (4, 2).
+NO_SQUARES = (
+    True, None, 0, "", (), (0,), (0, 0, 0), [0, 0], (2, 0), (0, 4), (1, 2), (-1, 0), (0, -1), (True, 0), (0, False),
+    (0, None), ("0", "0"), ((0, 0),), {0: 0}, (0, LONG), (LONG, 0), TURN, (0, TURN),
+)
+NO_LEAST_SIDES = NO_INTEGERS + (0, -1, 17, 60)
+NO_CUT_SIDES = NO_INTEGERS + (-1, 7, 60)
+NO_DOUBLED_SIDES = NO_INTEGERS + (0, -1, 11, 60)
+NO_TIMES = NO_INTEGERS + (-1, 41, 60)
+NO_MANY_LETTERS = NO_INTEGERS + (-1, 21, 30)
+# For the chain PAIR.
+NO_BOXES = NO_PLACES[:6] + (
+    (None,), (None,) * 3, [None, None], {None: None}, (3, None), (None, 4), (-1, None), (None, -1), (True, None),
+    (None, False), (None, "0"), ("", None), ((None, None),), (None, (0,)), {0: 0}, (None, LONG), ([], 0), TURN,
+    (None, TURN), {},
+)
+# For the chain PAIR and the heap (1, 1).
+NO_FILLINGS = (
+    True, None, 0, "", (), (0, 1), ((0,),), ((0,), (1,), ()), [(0,), (1,)], ([0], (1,)), ((0,), [1]), ((0, 1),),
+    ((0,), (0,)), ((1,), (0,)), ((1,), (1,)), ((0,), (2,)), ((-1,), (1,)), ((False,), (1,)), ((0,), (True,)),
+    ((0,), (1, 1)), ((0,), ()), ((0,), None), ((None,), (1,)), {0: (0,), 1: (1,)}, (("0",), ("1",)), TURN,
+    ((0,), TURN), ((0,), (LONG,)), (((0,),), ((1,),)),
+)
 
 KINDS = {
     "ring": (InvalidChain, NO_RINGS),
@@ -123,6 +183,26 @@ KINDS = {
     "joined end": (InvalidNumber, NO_JOINED_ENDS),
     "piece web": (InvalidWeb, NO_PIECE_WEBS),
     "piece deal": (InvalidDeal, NO_PIECE_DEALS),
+    "round values": (InvalidMap, NO_ROUND_VALUES),
+    "map": (InvalidMap, NO_MAPS),
+    "like map": (InvalidMap, NO_THREES),
+    "round": (InvalidNumber, NO_ROUNDS),
+    "letter round": (InvalidNumber, NO_LETTER_ROUNDS),
+    "third": (InvalidNumber, NO_THIRDS),
+    "word": (InvalidWord, NO_WORDS),
+    "order": (InvalidNumber, NO_ORDERS),
+    "core": (InvalidHeap, NO_CORES),
+    "core word": (InvalidWord, NO_CORE_WORDS),
+    "charges": (InvalidOperation, NO_CHARGES),
+    "parts": (InvalidOperation, NO_PARTS),
+    "square": (InvalidOperation, NO_SQUARES),
+    "least side": (InvalidNumber, NO_LEAST_SIDES),
+    "cut side": (InvalidNumber, NO_CUT_SIDES),
+    "doubled side": (InvalidNumber, NO_DOUBLED_SIDES),
+    "times": (InvalidNumber, NO_TIMES),
+    "many letters": (InvalidNumber, NO_MANY_LETTERS),
+    "box": (InvalidBox, NO_BOXES),
+    "filling": (InvalidFilling, NO_FILLINGS),
 }
 
 # Everything that a judging function may be asked about.
@@ -131,7 +211,8 @@ PILE = tuple(
     for _, values in KINDS.values()
     for value in values
 ) + (PAIR, TRIO, EVEN, TRIANGLE, SQUARE, (0, 0), (1, 3), {}, {(0, 1): 1}, {(0, 0): -5}, (0, 0, 0), (3, 1), (),
-     ((0, 1), (1, 2)), ((0, 1, 2), (0, 0, 0)), (1, (0, 0)), {(0, 1): 0}, -3, 400, MOST, ((0,),), ((0, 1),))
+     ((0, 1), (1, 2)), ((0, 1, 2), (0, 0, 0)), (1, (0, 0)), {(0, 1): 0}, -3, 400, MOST, ((0,),), ((0, 1),),
+     (0, ()), (1, (0, 1)), (None, None), (None, 2), (1, 1), (2, 1), (2, 2), ((0,), (1,)), (((),), ((1,),)))
 
 
 def raised(case, error, call, *arguments):

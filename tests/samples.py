@@ -1,6 +1,10 @@
 """Chosen by a told seed: chains, deals, webs, pieces and heaps to try."""
 
+from itertools import product
+
 from ringstairs.join.pieces import Piece
+from ringstairs.turns.greedy import made_of
+from ringstairs.turns.rounds import Round
 
 
 def random_chain(rng, rings, places):
@@ -42,3 +46,30 @@ def random_piece(rng, places, ties, most):
 
 def random_heap(rng, columns, rows):
     return tuple(sorted((rng.randint(1, rows) for _ in range(rng.randint(0, columns))), reverse=True))
+
+
+def random_letters(rng, m, many):
+    return tuple(rng.randrange(m) for _ in range(many)) if m > 1 else ()
+
+
+def random_map(rng, m, many, most):
+    """A map with at most so many falls and a shift of at most this size."""
+    return made_of(m, (rng.randint(-most, most), random_letters(rng, m, rng.randint(0, many))))
+
+
+def wild_map(rng, m, most):
+    """A map with values of this size, and any number of falls."""
+    rests = rng.sample(range(m), m)
+    return Round(tuple(rest + m * rng.randint(-most, most) for rest in rests))
+
+
+def heap_within(rng, columns, rows, squares):
+    """A heap of so many columns, rows and squares at most."""
+    while True:
+        heap = random_heap(rng, columns, rows)
+        if sum(heap) <= squares:
+            return heap
+
+
+def all_places(chain):
+    return list(product(*[range(places) for places, _ in chain]))

@@ -38,6 +38,55 @@ LISTED = {
         is_cuts(pieces, a, b, value) chain_table(chain, degree, places, a, b) chain_cuts(chain, degree, places, a, b)
         is_chain_cuts(chain, degree, places, a, b, value)
     """,
+    "ringstairs.turns.rounds": """
+        is_round(value) Round(values) plain_shift(m, t) letter(m, c) widened(p, m)
+    """,
+    "ringstairs.turns.greedy": """
+        greedy(p, q) is_below(p, q) more_at(p, q) is_more_at(p, q, value) does_nothing(p, c) is_split(p, q)
+        made_of(m, word) greedily_made(m, word) word_of(p) is_word_of(p, value) least_factor(whole, q)
+    """,
+    "ringstairs.turns.ends": """
+        ring_letters(chain, places) value_at(chain, degree, places, index) index_of(chain, degree, places, target)
+        window(chain, degree, places, first, last) end_table(chain, degree, places, a, b)
+        gaps_at_left(chain, degree, places) gaps_at_right(chain, degree, places)
+        are_one_map(chain, one, other_chain, other) parting(chain, one, other_chain, other)
+    """,
+    "ringstairs.fill.fillings": """
+        is_filling(chain, heap, value) does_fit(chain, heap, places, value) some_filling(chain, heap)
+        fitting(chain, heap, places) shortage(chain, heap) is_shortage(chain, heap, value)
+        fewest_letters(chain, heap) fillings_count(chain, heap)
+    """,
+    "ringstairs.fill.boxes": """
+        is_box(chain, value) is_in_box(chain, box, value) size_of(chain, box) holds_box(chain, one, other)
+        meeting(chain, one, other) box_of(chain, heap, filling) does_fill(chain, heap, box) left_out(chain, heap, box)
+        greatest_boxes(chain, heap) boxes_with(chain, heap, places)
+    """,
+    "ringstairs.fill.counts": """
+        classes_by_heap(chain, columns, rows) classes_at_least(chain, degree, k) classes_by_richness(chain, degree)
+        standard_fillings(heap) doubled_fillings(columns, rows)
+    """,
+    "ringstairs.core.cores": """
+        is_core(k, value) hook(heap, square) charges(k, core) core_of_charges(k, value) letters_of(k, core)
+        bounded_parts(k, core) core_of_parts(k, value) cores(k, letters)
+    """,
+    "ringstairs.core.words": """
+        with_letter(k, core, letter) made_by(k, word) idle_letters(k, word) growing_word(k, core)
+        is_growing_word(k, core, value) growing_words_count(k, core) core_subword(k, word, core)
+        is_core_subword(k, word, core, value) least_cores(k, columns, rows) least_letters(k, columns, rows)
+    """,
+}
+CONSTANTS = {
+    "ringstairs.link.chains": {"MOST_RINGS": 12, "MOST_PLACES": 60, "MOST_DIGITS": 60},
+    "ringstairs.webs.fire": {"MOST_PLACES": 12, "MOST_TIES": 40, "MOST_CHIPS": 100, "MOST_TAKEN": 4},
+    "ringstairs.heap.heaps": {"MOST_SIDE": 60},
+    "ringstairs.join.pieces": {"MOST_PIECE_PLACES": 6, "MOST_PIECE_TIES": 9, "MOST_PIECES": 6, "MOST_ENDS": 400},
+    "ringstairs.turns.rounds": {"MAX_ROUND": 60},
+    "ringstairs.turns.greedy": {"MAX_FALLS": 1000, "MAX_WORD": 2000},
+    "ringstairs.turns.ends": {"MOST_WINDOW": 200, "MOST_PERIOD": 10000},
+    "ringstairs.fill.fillings": {"MAX_SQUARES": 42, "MAX_KEPT": 1000},
+    "ringstairs.fill.boxes": {"MAX_BOXED": 16, "MAX_RINGS": 8, "MAX_BOXES": 500},
+    "ringstairs.core.cores": {"MAX_ORDER": 60, "MAX_LETTERS": 30},
+    "ringstairs.core.words": {"MAX_CORE_WORD": 200, "MAX_BOX": 16},
 }
 
 
@@ -50,6 +99,20 @@ class TestInterface(unittest.TestCase):
                 made = getattr(importlib.import_module(module), name)
                 self.assertEqual(name + str(inspect.signature(made)), row)
                 self.assertEqual(made.__module__, module)
+
+    def test_constants(self):
+        for module, told in CONSTANTS.items():
+            made = importlib.import_module(module)
+            self.assertEqual({name: getattr(made, name) for name in told}, told)
+
+    def test_methods_of_maps(self):
+        made = vars(importlib.import_module("ringstairs.turns.rounds").Round)
+        for name in ("counted", "second"):
+            self.assertEqual(str(inspect.signature(made[name])), "(self, a, b)")
+        for name in ("__call__", "__len__", "__str__", "__mul__", "__invert__", "__eq__"):
+            self.assertIn(name, made)
+        for name in ("told_values", "shift", "falls"):
+            self.assertIsInstance(made[name], property)
 
     def test_methods_of_pieces(self):
         made = importlib.import_module("ringstairs.join.pieces").Piece

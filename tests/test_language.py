@@ -18,8 +18,9 @@ CALLED_BUILTINS = {
 }
 NAMED_BUILTINS = CALLED_BUILTINS | {
     "IndexError", "KeyError", "LookupError", "OverflowError", "ArithmeticError", "ValueError", "property",
+    "NotImplemented",
 }
-LIBRARY = {"math": {"gcd", "lcm", "isqrt", "comb"}, "heapq": {"heappush", "heappop"}}
+LIBRARY = {"math": {"gcd", "lcm", "isqrt", "comb", "factorial"}, "heapq": {"heappush", "heappop"}}
 BANNED_WORDS = (
     "type", "typing", "enum", "Enum", "Flag", "Generic", "Protocol", "ABC", "namedtuple", "NamedTuple", "TypedDict",
     "abstractmethod", "register", "mro", "elements", "open", "input", "law", "_wall", "_WallAttr",
@@ -89,6 +90,39 @@ class TestLanguage(unittest.TestCase):
                     for operator, right in zip(node.ops, node.comparators):
                         if isinstance(operator, (ast.Is, ast.IsNot)):
                             self.assertIsInstance(right, ast.Constant)
+
+    def test_iterated_at_once(self):
+        eaters = {"list", "tuple", "dict", "sorted", "sum", "any", "all", "enumerate", "zip", "min", "max", "len"}
+        for path, tree in trees():
+            ahead = {child: node for node in ast.walk(tree) for child in ast.iter_child_nodes(node)}
+            for node in ast.walk(tree):
+                if not isinstance(node, ast.Call) or not isinstance(node.func, ast.Name):
+                    continue
+                if node.func.id not in ("range", "zip", "enumerate", "reversed"):
+                    continue
+                above = ahead[node]
+                if isinstance(above, (ast.For, ast.comprehension)):
+                    right = above.iter is node
+                elif isinstance(above, ast.Call) and isinstance(above.func, ast.Name):
+                    allowed = eaters | ({"reversed"} if node.func.id == "range" else set())
+                    right = above.func.id in allowed and above.args[0] is node
+                else:
+                    right = isinstance(above, ast.Assign) and node.func.id == "range"
+                self.assertTrue(right, (path, node.lineno))
+
+    def test_classes(self):
+        known = {
+            "__init__", "__eq__", "__str__", "__len__", "__call__", "__mul__", "__invert__",
+        }
+        for path, tree in trees():
+            for node in ast.walk(tree):
+                if isinstance(node, ast.ClassDef):
+                    names = [row.name for row in node.body if isinstance(row, ast.FunctionDef)]
+                    self.assertEqual(len(names), len(set(names)), (path, node.name))
+                    self.assertTrue({name for name in names if name.startswith("__")} <= known, (path, node.name))
+                # In a package with operators nothing but plain sums is kept in steps.
+                if isinstance(node, ast.AugAssign):
+                    self.assertIsInstance(node.op, (ast.Add, ast.Sub), (path, node.lineno))
 
     def test_imports(self):
         for path, tree in trees():

@@ -48,6 +48,11 @@ def has_box(heap, columns, rows):
     return columns < 1 or rows < 1 or height_at(heap, columns - 1) >= rows
 
 
+def holds(heap, other):
+    """Whether what surely is a heap has all squares of the other one."""
+    return all([height_at(heap, column) >= height for column, height in enumerate(other)])
+
+
 def box(columns, rows):
     """The box of so many columns and rows."""
     check_up_to(columns, MOST_SIDE)
@@ -66,14 +71,23 @@ def squares(heap):
 def is_held(heap, other):
     """Whether the heap holds the other one."""
     check_heaps(heap, other)
-    return all([height_at(heap, column) >= height for column, height in enumerate(other)])
+    return holds(heap, other)
+
+
+def lengths_of(heap):
+    """The tuple of the lengths of the rows of what surely is a heap."""
+    return tuple([len([height for height in heap if height > row]) for row in range(height_at(heap, 0))])
+
+
+def hook_at(heap, lengths, column, row):
+    """The hook of a square of a heap whose rows have these lengths."""
+    return heap[column] - row + lengths[row] - column - 1
 
 
 def turned_over(heap):
     """The heap with columns for rows."""
     check_heap(heap)
-    rows = range(height_at(heap, 0))
-    return tuple([len([height for height in heap if height > row]) for row in rows])
+    return lengths_of(heap)
 
 
 def union_of(one, other):
@@ -95,11 +109,22 @@ def open_columns(heap):
     return [column for column in columns if column == 0 or heap[column - 1] > height_at(heap, column)]
 
 
+def tips_of(heap):
+    """The list of the columns whose highest square can be taken away, each with its height."""
+    return [(column, height) for column, height in enumerate(heap) if height > height_at(heap, column + 1)]
+
+
 def heaped(heap, columns):
     """The heap with a square more on each of these columns, of any size."""
     heights = list(heap) + [0]
     for column in columns:
         heights[column] += 1
+    return tuple([height for height in heights if height > 0])
+
+
+def lowered(heap, columns):
+    """The heap with a square less on each of these columns."""
+    heights = [height - 1 if column in columns else height for column, height in enumerate(heap)]
     return tuple([height for height in heights if height > 0])
 
 
@@ -112,8 +137,7 @@ def addable(heap):
 def removable(heap):
     """The ascending tuple of the diagonals on which a square can be taken away."""
     check_heap(heap)
-    told = [(column, height) for column, height in enumerate(heap) if height > height_at(heap, column + 1)]
-    return tuple([column - height + 1 for column, height in told])
+    return tuple([column - height + 1 for column, height in tips_of(heap)])
 
 
 def with_square(heap, diagonal):
@@ -150,6 +174,16 @@ def heaps_of(chain, places):
     for index, ring in enumerate(chain):
         heaps.append(grown_by(heaps[index], ring, places[index]))
     return heaps
+
+
+def labels_along(heaps):
+    """The columns of the last one of growing heaps, with the index of the step that added each square."""
+    columns = [[] for _ in heaps[-1]]
+    for index in range(len(heaps) - 1):
+        for column, height in enumerate(heaps[index + 1]):
+            if height > height_at(heaps[index], column):
+                columns[column].append(index)
+    return columns
 
 
 def heap_of(chain, places):

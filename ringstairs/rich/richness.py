@@ -1,7 +1,7 @@
 """The richness of deals on chains, and the papers that show it."""
 
 from ringstairs.basics import check_from, is_between
-from ringstairs.heap.heaps import has_box, heaps_of, height_at
+from ringstairs.heap.heaps import has_box, heaps_of, labels_along
 from ringstairs.link.chains import (
     check_chain, check_deal, combined, lets, lies_dealt, right_name, told_sum, written_name,
 )
@@ -39,17 +39,6 @@ def check_asked(chain, deal, k):
     check_from(k, 0)
 
 
-def labelled(chain, places):
-    """The columns of the heap of a tuple, with the index of the ring that added each square."""
-    heaps = heaps_of(chain, places)
-    columns = [[] for _ in heaps[-1]]
-    for index in range(len(chain)):
-        for column, height in enumerate(heaps[index + 1]):
-            if height > height_at(heaps[index], column):
-                columns[column].append(index)
-    return columns
-
-
 def filling_of(chain, deal, k):
     """Any filling for k of the deal, None if it is not so rich."""
     check_asked(chain, deal, k)
@@ -57,7 +46,7 @@ def filling_of(chain, deal, k):
     rows = len(chain) - degree + k
     if rows < 1:
         return ()
-    columns = labelled(chain, places)
+    columns = labels_along(heaps_of(chain, places))
     if k >= len(columns) or len(columns[k]) < rows:
         return None
     return tuple([tuple(column[:rows]) for column in columns[:k + 1]])

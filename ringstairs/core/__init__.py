@@ -1,0 +1,1 @@
+"""Cores, and their words."""

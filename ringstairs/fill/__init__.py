@@ -1,0 +1,1 @@
+"""Fillings of heaps, and what they tell of classes."""

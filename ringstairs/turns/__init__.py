@@ -1,0 +1,1 @@
+"""Maps of the integers, and the map of a chain."""
