@@ -240,6 +240,9 @@ class TestTwoMaps(unittest.TestCase):
         self.assertEqual((lcm(49, 51, 4), lcm(15, 23, 29)), (9996, 10005))
         one = (4, (0, 0, 0))
         self.assertIs(are_one_map(NEAR, one, NEAR, one), True)
+        odd = ((25, 1), (21, 1), (19, 1))
+        self.assertEqual(lcm(25, 21, 19), 9975)
+        self.assertIs(are_one_map(odd, one, odd, one), True)
         self.assertIsNone(parting(NEAR, one, NEAR, one))
         self.assertEqual(parting(NEAR, one, NEAR, (4, (0, 0, 1))), 1)
         for call in (are_one_map, parting):
