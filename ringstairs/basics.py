@@ -4,6 +4,8 @@ from ringstairs.errors import InvalidNumber, TooMany
 
 BOUND = 10 ** 60
 DIGITS = 60
+SHORT_BOUND = 10 ** 50
+SHORT_DIGITS = 50
 
 
 def is_integer(value):
@@ -14,6 +16,16 @@ def is_integer(value):
 def is_between(value, low, high):
     """Whether the value is an integer from low to high."""
     return is_integer(value) and low <= value <= high
+
+
+def is_short(value):
+    """Whether the value is an integer of at most fifty digits."""
+    return is_between(value, 1 - SHORT_BOUND, SHORT_BOUND - 1)
+
+
+def are_short(numbers):
+    """Whether all members of a list are integers of at most fifty digits."""
+    return all([is_short(number) for number in numbers])
 
 
 def is_pair(value):

@@ -4,8 +4,9 @@ import copy
 
 from ringstairs.errors import (
     InvalidBox, InvalidChain, InvalidDeal, InvalidFilling, InvalidHeap, InvalidMap, InvalidNumber, InvalidOperation,
-    InvalidTuple, InvalidWeb, InvalidWord,
+    InvalidTuple, InvalidWeb, InvalidWord, ParseError,
 )
+from ringstairs.house.shelf import Shelf
 from ringstairs.join.pieces import Piece
 from ringstairs.turns.rounds import Round
 
@@ -21,6 +22,8 @@ MOST = LONG - 1
 ODD_PIECE = Piece(SQUARE, 0, 1, (0, 1, 1, 0))
 RING_PIECE = Piece(TRIANGLE, 1, 0, (1, 0, 1))
 TURN = Round((3, 1, 2))
+SHORT = 10 ** 50
+LITTLE = Shelf(((3, 1),), {"one": {(0, 1): 1}})
 
 
 def nested(depth):
@@ -161,6 +164,88 @@ NO_FILLINGS = (
     ((0,), (1, 1)), ((0,), ()), ((0,), None), ((None,), (1,)), {0: (0,), 1: (1,)}, (("0",), ("1",)), TURN,
     ((0,), TURN), ((0,), (LONG,)), (((0,),), ((1,),)),
 )
+NO_LIKE_CHAINS = NO_CHAINS + (((3, 1), (4, 1)), ((2, 1), (2, 1), (4, 1)), ((6, 2), (6, 3)))
+NO_LEVELS = (
+    True, None, 0, "", (), (1,), (0,) * 61, (1, 0), (0, 1, 0), [0, 1], {0: 1}, (True, 1), (0, True), (None, 0), ("0", "1"),
+    ((0,), (1,)), (-SHORT, 0), (0, SHORT), (0, LONG), (-LONG, 0), (0, 10 ** 219), TURN, (0, TURN), (0, None), nested(8),
+    LITTLE,
+)
+# For k = 3.
+NO_THREE_LEVELS = NO_LEVELS + ((0, 0), (0, 0, 0, 0))
+# Levels, but not as many as those of the first argument, or not of their sum.
+NO_LIKE_LEVELS = NO_THREE_LEVELS + ((0, 0, 1), (-1, 0, 0), (-SHORT + 1, 0, SHORT - 2))
+NO_SHORT_INTEGERS = NO_INTEGERS + (SHORT, -SHORT, MOST)
+NO_RING_COUNTS = NO_INTEGERS + (0, -1, 13, 60)
+NO_WISHES = (
+    True, None, 0, "", [], [(0, 0, 0)], {}, (0, 0, 0), ((0, 0),), ((0, 0, 0, 0),), ([0, 0, 0],), ((101, 0, 0),),
+    ((0, -101, 0),), ((0, 0, 41),), ((0, 0, -1),), ((True, 0, 0),), ((0, False, 0),), ((0, 0, True),), ((0, 0, None),),
+    (("0", 0, 0),), ((0, 0, 0),) * 61, ((0, 0, 0), None), (((0, 0, 0),),), ((0, LONG, 0),), TURN, (TURN,), ((0, 0, TURN),),
+    nested(8), LITTLE, {(0, 0, 0): 1},
+)
+# For two members.
+NO_LEFT_GAPS = (
+    True, None, 0, "", (), [0, 1], {0: 1}, (1, 0), (1, 1), (0, 31), (-1, 0), (True, 2), (0, True), (0, None), ("0", "1"),
+    ((0, 1),), (0, 1, 2, 3, 4, 5, 6, 7, 8), (0, LONG), ((0,), (1,)), TURN, (0, TURN), nested(8), LITTLE,
+)
+NO_RIGHT_GAPS = NO_LEFT_GAPS + ((0,), (0, 1, 2))
+NO_RING_INDICES = NO_INTEGERS + (-1, 2, 12)
+# For the chain PAIR.
+NO_NAMED = (
+    True, None, 0, "", (), [], [("a", {})], (("a", {}),), {"a": None}, {"a": ()}, {"a": []}, {"": {}}, {"A": {}},
+    {"1a": {}}, {"abcdefghi": {}}, {"a b": {}}, {"a_": {}}, {0: {}}, {None: {}}, {("a",): {}}, {True: {}},
+    {"a": {}, "B": {}}, {"a": {(0, 3): 1}}, {"a": {(2, 0): 1}}, {"a": {(0, 0): SHORT}}, {"a": {(0, 0): -SHORT}},
+    {"a": {(0, 0): True}}, {"a": {(0, 0): None}}, {"a": {(0, 0): SHORT - 1, (1, 1): 1}}, {"a": {0: 1}},
+    {"a": {(0, 0): 1 - SHORT, (1, 1): -1}}, {"a": {(0, 0): LONG}}, {(0, 0): 1}, TURN, LITTLE, {"a": TURN},
+    dict(("n" + str(at), {}) for at in range(21)), "x" * 20000,
+)
+# By their form, and for the deals "one" and "two" on the chain PAIR.
+NO_QUESTION_FORMS = (
+    True, None, 0, "", (), ("alike",), ("alike", "one"), ("alike", "one", "two", "two"), ["alike", "one", "two"],
+    ("alike", "One", "two"), ("alike", "one", 2), ("alike", None, "two"), ("like", "one", "two"), ("rich", "one"),
+    ("rich", "one", -1), ("rich", "one", 13), ("rich", "one", True), ("rich", "one", "1"), ("rich", 1, "one"),
+    ("rich", "one", None), ("rich", ("one",), 1), ("some", 61, 0), ("some", -61, 0), ("some", 0, 13), ("some", 0, -1),
+    ("some", True, 0), ("some", 0, False), ("some", "0", 0), ("some", 0, LONG), ("some", "one", 0), (TURN, "one", 1),
+    ("rich", TURN, 1), ("alike", "", "one"), ("alike", "abcdefghi", "one"), TURN, LITTLE, nested(8), {"alike": "one"},
+    ("RICH", "one", 1), (None, "one", 1), (("rich",), "one", 1), ([], "one", 1),
+)
+NO_QUESTIONS = NO_QUESTION_FORMS + (
+    ("alike", "one", "three"), ("alike", "three", "one"), ("rich", "three", 1), ("some", -60, 12), ("some", -41, 0),
+)
+NO_VERDICTS = (0, 1, None, "True", "yes", (), (True,), [True], {}, TURN, LITTLE, LONG, {True: True})
+NO_EDIT_FORMS = (
+    True, None, 0, "", (), ("put",), ("put", "a"), ("put", "a", {}, {}), ["put", "a", {}], ("put", "A", {}),
+    ("put", 1, {}), ("put", "a", None), ("put", "a", ()), ("put", "a", {0: 1}), ("put", "a", {(0, 60): 1}),
+    ("put", "a", {(60, 0): 1}), ("put", "a", {(-1, 0): 1}), ("put", "a", {(0, 0): SHORT}), ("put", "a", {(0, 0): True}),
+    ("put", "a", {(True, 0): 1}), ("put", "a", {(0, 0, 0): 1}), ("put", "a", {(0, 0): None}), ("put", "a", [(0, 0)]),
+    ("drop", "a", "b", "c"), ("out", 0, 0, 0), ("drop",), ("drop", 1), ("drop", "a", "b"), ("drop", ""), ("drop", None), ("drop", "abcdefghi"), ("ring", 0),
+    ("ring", 0, (1, 1)), ("ring", 0, (3, 3)), ("ring", 0, [3, 1]), ("ring", 13, (3, 1)), ("ring", -1, (3, 1)),
+    ("ring", True, (3, 1)), ("ring", 0, None), ("ring", (3, 1), 0), ("ring", 0, (3, 1), 0), ("out",), ("out", 13),
+    ("out", -1), ("out", False), ("out", "a"), ("out", 0, 0), ("turn",), ("turn", 13), ("turn", None), ("turn", 0, 1),
+    ("turn", LONG), ("flip", 0), (None, 0), (TURN, 0), ("put", TURN, {}), ("put", "a", TURN), TURN, LITTLE, nested(8),
+    ("put", ["a"], {}), ("drop", ["a"]), {"drop": "a"}, ("put", "a", {(0, 0): LONG}), ("put", "a", {None: 1}),
+)
+NO_EDITS = NO_EDIT_FORMS + (
+    (), [("turn", 0)], (("turn", 0),) * 11, ("turn", 0), (None,), (("turn", 0), None), (("turn", 0), ("flip", 0)),
+    ((("turn", 0),),), {("turn", 0): 1}, (LITTLE,),
+)
+# For two editions, and two claims of the first one; None is an edition.
+NO_EDITIONS = tuple(value for value in NO_INTEGERS if value is not None) + (0, -1, 3, 40)
+NO_CLAIM_NUMBERS = NO_INTEGERS + (0, -1, 3, 20)
+NO_SHELVES = (True, None, 0, "", (), [], {}, (LITTLE,), [LITTLE], {0: LITTLE}, TURN, PAIR, "shelf", Shelf, ODD_PIECE)
+NO_TEXTS = (
+    True, None, 0, 1, (), ("",), [], ["3"], {}, {"3": 1}, TURN, LITTLE, LONG, nested(8), " " * 20001, "3" * 20001,
+)
+NO_STRINGS = NO_TEXTS[:-2]
+NO_TOLD = (
+    True, False, "", "none", [], [1], (True,), ("1",), ([],), {0: 1}, {(0,): 1}, {(0, 60): 1}, {(60, 0): 1}, {(-1, 0): 1},
+    {(0, 0): True}, {(0, 0): None}, {(0, 0): (1,)}, {(0, 0): LONG}, {(True, 0): 1}, {(0, None): 1}, {"00": 1}, LONG, -LONG,
+    (LONG,), nested(9), (nested(8),), TURN, (TURN,), LITTLE, {(0, 0): TURN}, 10 ** 219, {((0, 0),): 1}, {(0, 0, 0): 1},
+)
+NO_LINES = NO_TEXTS[:-2] + (" " * 2001, "x" * 2001, "a\tb", "\n", "names\n", "\t", "x" * 20000)
+NO_LINE_ROWS = (
+    True, None, 0, "", "names", ["names"], {}, {"names": 1}, ("names",) * 41, ("names", None), ("names", 1), (("names",),),
+    ("names", "\n"), ("x" * 2001,), ("names", "\t", ""), TURN, LITTLE, (LITTLE,), LONG, nested(8),
+)
 
 KINDS = {
     "ring": (InvalidChain, NO_RINGS),
@@ -203,16 +288,47 @@ KINDS = {
     "many letters": (InvalidNumber, NO_MANY_LETTERS),
     "box": (InvalidBox, NO_BOXES),
     "filling": (InvalidFilling, NO_FILLINGS),
+    "like chain": (InvalidChain, NO_LIKE_CHAINS),
+    "levels": (InvalidOperation, NO_LEVELS),
+    "three levels": (InvalidOperation, NO_THREE_LEVELS),
+    "like levels": (InvalidOperation, NO_LIKE_LEVELS),
+    "short integer": (InvalidNumber, NO_SHORT_INTEGERS),
+    "ring count": (InvalidNumber, NO_RING_COUNTS),
+    "wishes": (InvalidOperation, NO_WISHES),
+    "left gaps": (InvalidOperation, NO_LEFT_GAPS),
+    "right gaps": (InvalidOperation, NO_RIGHT_GAPS),
+    "ring index": (InvalidNumber, NO_RING_INDICES),
+    "named": (InvalidDeal, NO_NAMED),
+    "named maybe": (InvalidDeal, tuple(value for value in NO_NAMED if value is not None)),
+    "question": (InvalidOperation, NO_QUESTIONS),
+    "verdict": (InvalidOperation, NO_VERDICTS),
+    "edits": (InvalidOperation, NO_EDITS),
+    "edit": (InvalidOperation, NO_EDIT_FORMS),
+    "edition": (InvalidNumber, NO_EDITIONS),
+    "claim number": (InvalidNumber, NO_CLAIM_NUMBERS),
+    "shelf": (InvalidOperation, NO_SHELVES),
+    "text": (ParseError, NO_TEXTS),
+    "string": (ParseError, NO_STRINGS),
+    "told": (InvalidOperation, NO_TOLD),
+    "line": (InvalidOperation, NO_LINES),
+    "lines": (InvalidOperation, NO_LINE_ROWS),
 }
 
+
+
+def once(values):
+    """The values, each once, True other than 1."""
+    return tuple({repr(value): value for value in values}.values())
+
+
 # Everything that a judging function may be asked about.
-PILE = tuple(
+PILE = once(tuple(
     value
     for _, values in KINDS.values()
     for value in values
 ) + (PAIR, TRIO, EVEN, TRIANGLE, SQUARE, (0, 0), (1, 3), {}, {(0, 1): 1}, {(0, 0): -5}, (0, 0, 0), (3, 1), (),
      ((0, 1), (1, 2)), ((0, 1, 2), (0, 0, 0)), (1, (0, 0)), {(0, 1): 0}, -3, 400, MOST, ((0,),), ((0, 1),),
-     (0, ()), (1, (0, 1)), (None, None), (None, 2), (1, 1), (2, 1), (2, 2), ((0,), (1,)), (((),), ((1,),)))
+     (0, ()), (1, (0, 1)), (None, None), (None, 2), (1, 1), (2, 1), (2, 2), ((0,), (1,)), (((),), ((1,),))))
 
 
 def raised(case, error, call, *arguments):
@@ -245,6 +361,8 @@ def check_wrong(case, call, good, kinds):
             case.assertEqual(before, arguments)
             if error is InvalidNumber:
                 case.assertIs(caught.given, wrong)
+            if error is ParseError:
+                case.assertIsNone(caught.spot)
         for behind in range(at + 1, len(kinds)):
             if kinds[behind] is None:
                 continue

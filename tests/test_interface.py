@@ -74,6 +74,37 @@ LISTED = {
         is_growing_word(k, core, value) growing_words_count(k, core) core_subword(k, word, core)
         is_core_subword(k, word, core, value) least_cores(k, columns, rows) least_letters(k, columns, rows)
     """,
+    "ringstairs.core.levels": """
+        is_levels(value) distance(levels) level_richness(levels, c) are_above(one, other) levels_of(chain, deal)
+        core_of_levels(levels) can_be_met(rings, levels) class_with_levels(chain, levels)
+        has_levels(chain, levels, value)
+    """,
+    "ringstairs.ends.wishes": """
+        is_wishes(value) meets(chain, deal, wishes) some_class(chain, degree, wishes)
+        classes_meeting(chain, degree, wishes) gap_wishes(left, right) gap_rows(chain, degree, left, right)
+        gap_filling(chain, deal, left, right) is_gap_filling(chain, deal, left, right, value)
+    """,
+    "ringstairs.ends.turned": """
+        rest_of(chain, deal) backward(chain, deal) flipped(chain, deal, index) least_degree(chain, k)
+        least_class(chain, k) is_least_class(chain, k, value) is_two_sided(chain) two_sides(chain)
+    """,
+    "ringstairs.house.shelf": """
+        is_question(value) decide(chain, deals, question) is_paper(chain, deals, question, verdict, value)
+        is_edit(value) edited(chain, deals, edits) Shelf(chain, deals=None)
+    """,
+    "ringstairs.house.hands": """
+        Hand(shelf)
+    """,
+    "ringstairs.house.log": """
+        log_text(shelf) read_log(text)
+    """,
+    "ringstairs.text.texts": """
+        write_chain(chain) write_deal(chain, deal) write_heap(heap) read_chain(text) read_deal(chain, text)
+        read_heap(text) write_value(value) read_value(text)
+    """,
+    "ringstairs.text.shell": """
+        Shell(shelf)
+    """,
 }
 CONSTANTS = {
     "ringstairs.link.chains": {"MOST_RINGS": 12, "MOST_PLACES": 60, "MOST_DIGITS": 60},
@@ -87,6 +118,42 @@ CONSTANTS = {
     "ringstairs.fill.boxes": {"MAX_BOXED": 16, "MAX_RINGS": 8, "MAX_BOXES": 500},
     "ringstairs.core.cores": {"MAX_ORDER": 60, "MAX_LETTERS": 30},
     "ringstairs.core.words": {"MAX_CORE_WORD": 200, "MAX_BOX": 16},
+    "ringstairs.ends.wishes": {"MAX_WISHES": 60, "MAX_TRIED": 10000},
+    "ringstairs.house.shelf": {"MAX_NAMED": 20, "MAX_CLAIMS": 20, "MAX_EDITIONS": 40, "MAX_EDITS": 10},
+    "ringstairs.house.hands": {"MAX_CALLS": 40},
+    "ringstairs.text.shell": {"MAX_LINE": 2000},
+}
+METHODS = {
+    ("ringstairs.house.shelf", "Shelf"): """
+        edit(self, edits) pin(self, question) chain_at(self, edition=None) deals_at(self, edition=None)
+        standing(self, number, edition=None) twin(self)
+    """,
+    ("ringstairs.house.hands", "Hand"): """
+        change(self, edit) ask(self, question) commit(self) renew(self)
+    """,
+    ("ringstairs.text.shell", "Shell"): """
+        say(self, line) run(self, lines)
+    """,
+    ("ringstairs.turns.rounds", "Round"): """
+        counted(self, a, b) second(self, a, b)
+    """,
+    ("ringstairs.join.pieces", "Piece"): """
+        table_at(self, a, b) step_at(self, a, b)
+    """,
+}
+PROPERTIES = {
+    ("ringstairs.house.shelf", "Shelf"): "editions claims fallen history",
+    ("ringstairs.house.hands", "Hand"): "base calls chain_now deals_now",
+    ("ringstairs.text.shell", "Shell"): "said",
+    ("ringstairs.turns.rounds", "Round"): "told_values shift falls",
+    ("ringstairs.join.pieces", "Piece"): "web left right deal period",
+}
+OPERATORS = {
+    ("ringstairs.house.shelf", "Shelf"): "__init__ __contains__ __len__ __eq__ __str__",
+    ("ringstairs.house.hands", "Hand"): "__init__ __len__ __eq__ __str__",
+    ("ringstairs.text.shell", "Shell"): "__init__ __str__",
+    ("ringstairs.turns.rounds", "Round"): "__init__ __call__ __len__ __str__ __mul__ __invert__ __eq__",
+    ("ringstairs.join.pieces", "Piece"): "__init__ __str__ __eq__",
 }
 
 
@@ -105,19 +172,24 @@ class TestInterface(unittest.TestCase):
             made = importlib.import_module(module)
             self.assertEqual({name: getattr(made, name) for name in told}, told)
 
-    def test_methods_of_maps(self):
-        made = vars(importlib.import_module("ringstairs.turns.rounds").Round)
-        for name in ("counted", "second"):
-            self.assertEqual(str(inspect.signature(made[name])), "(self, a, b)")
-        for name in ("__call__", "__len__", "__str__", "__mul__", "__invert__", "__eq__"):
-            self.assertIn(name, made)
-        for name in ("told_values", "shift", "falls"):
-            self.assertIsInstance(made[name], property)
+    def test_methods(self):
+        for (module, name), text in METHODS.items():
+            made = vars(getattr(importlib.import_module(module), name))
+            for row in " ".join(text.split()).replace(") ", ")\n").splitlines():
+                method = row[:row.index("(")]
+                self.assertEqual(method + str(inspect.signature(made[method])), row)
 
-    def test_methods_of_pieces(self):
-        made = importlib.import_module("ringstairs.join.pieces").Piece
-        for name in ("table_at", "step_at"):
-            self.assertEqual(str(inspect.signature(vars(made)[name])), "(self, a, b)")
+    def test_properties(self):
+        for (module, name), text in PROPERTIES.items():
+            made = vars(getattr(importlib.import_module(module), name))
+            for told in text.split():
+                self.assertIsInstance(made[told], property)
+
+    def test_operators(self):
+        for (module, name), text in OPERATORS.items():
+            made = vars(getattr(importlib.import_module(module), name))
+            for told in text.split():
+                self.assertIn(told, made)
 
 
 if __name__ == "__main__":

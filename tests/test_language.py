@@ -25,9 +25,13 @@ BANNED_WORDS = (
     "type", "typing", "enum", "Enum", "Flag", "Generic", "Protocol", "ABC", "namedtuple", "NamedTuple", "TypedDict",
     "abstractmethod", "register", "mro", "elements", "open", "input", "law", "_wall", "_WallAttr",
 )
-BUILTIN_METHODS = {"append", "copy", "count", "extend", "get", "index", "items", "join", "keys", "pop", "values"}
+# The name `_` is put among the builtins by what shows values.
+BUILTINS = set(dir(builtins)) - {"_"}
+BUILTIN_METHODS = {
+    "append", "copy", "count", "extend", "get", "index", "items", "join", "keys", "pop", "split", "startswith", "values",
+}
 NO_NODES = (
-    ast.AsyncFunctionDef, ast.Await, ast.AnnAssign, ast.Global, ast.Nonlocal, ast.Try, ast.With, ast.Yield,
+    ast.AsyncFunctionDef, ast.Await, ast.AnnAssign, ast.Global, ast.Nonlocal, ast.With, ast.Yield,
     ast.YieldFrom, ast.GeneratorExp, ast.Set, ast.SetComp, ast.Starred, ast.Div, ast.NamedExpr, ast.Import, ast.Match,
 )
 
@@ -112,7 +116,7 @@ class TestLanguage(unittest.TestCase):
 
     def test_classes(self):
         known = {
-            "__init__", "__eq__", "__str__", "__len__", "__call__", "__mul__", "__invert__",
+            "__init__", "__eq__", "__str__", "__len__", "__call__", "__mul__", "__invert__", "__contains__",
         }
         for path, tree in trees():
             for node in ast.walk(tree):
@@ -123,6 +127,19 @@ class TestLanguage(unittest.TestCase):
                 # In a package with operators nothing but plain sums is kept in steps.
                 if isinstance(node, ast.AugAssign):
                     self.assertIsInstance(node.op, (ast.Add, ast.Sub), (path, node.lineno))
+
+    def test_only_own_errors_are_caught(self):
+        own = self.defined(ast.parse((PACKAGE / "errors.py").read_text()))
+        for path, tree in trees():
+            for node in ast.walk(tree):
+                if not isinstance(node, ast.Try):
+                    continue
+                self.assertFalse(node.finalbody or node.orelse, path)
+                names = [row.name for row in node.handlers if row.name is not None]
+                self.assertEqual(len(names), len(set(names)), path)
+                for row in node.handlers:
+                    caught = row.type.elts if isinstance(row.type, ast.Tuple) else [row.type]
+                    self.assertTrue({part.id for part in caught} <= own, (path, row.lineno))
 
     def test_imports(self):
         for path, tree in trees():
@@ -190,7 +207,7 @@ class TestLanguage(unittest.TestCase):
                 if isinstance(node, ast.Name) and isinstance(node.ctx, ast.Store) and node.id not in values:
                     local.add(node.id)
             self.assertFalse(local & set(imported + classes), (path, local & set(imported + classes)))
-            self.assertFalse((local | set(functions + values)) & set(dir(builtins)), path)
+            self.assertFalse((local | set(functions + values)) & BUILTINS, path)
 
     def test_calls(self):
         methods = set()
@@ -200,7 +217,7 @@ class TestLanguage(unittest.TestCase):
                     methods |= {row.name for row in node.body if isinstance(row, ast.FunctionDef)}
         for path, tree in trees():
             for node in ast.walk(tree):
-                if isinstance(node, ast.Name) and node.id in dir(builtins):
+                if isinstance(node, ast.Name) and node.id in BUILTINS:
                     self.assertIn(node.id, NAMED_BUILTINS, (path, node.lineno))
                 if isinstance(node, ast.Call):
                     self.assertFalse([row for row in node.keywords if row.arg is None])

@@ -20,9 +20,14 @@ def check_places(chain, places):
         raise InvalidTuple("no tuple of places of this chain")
 
 
+def is_class(chain, value):
+    """Whether the value is a pair of a degree and a tuple of what surely is a chain."""
+    return is_pair(value) and is_integer(value[0]) and lies_told(chain, value[1])
+
+
 def check_class(chain, value):
     """Refuse what is no pair of a degree and a tuple of what surely is a chain."""
-    if not is_pair(value) or not is_integer(value[0]) or not lies_told(chain, value[1]):
+    if not is_class(chain, value):
         raise InvalidTuple("no class of this chain")
 
 

@@ -1,0 +1,1 @@
+"""What both ends of a chain ask for, and chains turned around."""

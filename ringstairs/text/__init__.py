@@ -1,0 +1,1 @@
+"""Values as texts, and lines that are said to a shelf."""
